@@ -250,24 +250,63 @@ func TestFreeOfPowers(t *testing.T) {
 	checkFree(t, fullModel(r, 1, most))
 }
 
-// P2.6: beyond the range there may be an error, but nothing wrong.
-func TestDivisorsBeyondTheirRange(t *testing.T) {
+// P2.6: beyond the range Gcd may have an error, but returns nothing wrong.
+func TestGcdBeyondItsRange(t *testing.T) {
 	r := rand.New(rand.NewPCG(21, 21))
 	one := big.NewInt(1)
-	check := func(what string, p api.Poly, e api.Errno, want func() model) {
-		t.Helper()
-		if e != api.OK {
-			expectError(t, what, p, e, api.ErrSize)
-		} else {
-			expect(t, what, p, e, want())
-		}
-	}
 	for _, m := range append(limitModels(), fullModel(r, api.MaxDegree, 220), fullModel(r, 12, 500), model{one, one, bit(most - 1)}, model{one, ones(most / 2)}.power(2)) {
 		o := fullModel(r, len(m)/2, 600)
-		f, e := poly.Free(m.poly())
-		check("Free", f, e, m.free)
 		g, e := poly.Gcd(m.poly(), o.poly())
-		check("Gcd", g, e, func() model { return m.common(o) })
+		if e != api.OK {
+			expectError(t, "Gcd", g, e, api.ErrSize)
+		} else {
+			expect(t, "Gcd", g, e, m.common(o))
+		}
+	}
+}
+
+// P2.6: Free has no error beyond the range either, unless its result is large.
+func TestFreeBeyondItsRange(t *testing.T) {
+	r := rand.New(rand.NewPCG(22, 22))
+	one, top := big.NewInt(1), bit(most-1)
+	check := func(m, want model) {
+		t.Helper()
+		f, e := poly.Free(m.poly())
+		expect(t, "Free", f, e, want.primitive().upright())
+	}
+	for _, m := range []model{{one, one, top}, {one, minus(ones(most)), top}, fullModel(r, api.MaxDegree, most), fullModel(r, 12, 500), {minus(ones(most)), one}} {
+		check(m, m)
+	}
+	check(ints(0, 1).power(api.MaxDegree).times(ones(most)), ints(0, 1))
+	check(model{one, ones(most / 2)}.power(2), model{one, ones(most / 2)})
+	// The derivative, or a remainder on the way, is large.
+	line := model{big.NewInt(-3), new(big.Int).Sub(top, one)}
+	check(line.by(roots(-1, -1)), line.by(roots(-1)))
+	m := fullModel(r, 3, 2500)
+	check(m.power(2), m)
+	check(m.power(3), m)
+	check(m.by(roots(7, 7, 7)).times(big.NewInt(-5)), m.by(roots(7)))
+	// The elements of what is left without the second root 1 are sums of those of the whole.
+	rest := ints(1, 2, 3, 2, 1, 0, -1, -2, -3, -2, -1).times(top).plus(roots(1))
+	f, e := poly.Free(rest.by(roots(1)).poly())
+	expectError(t, "Free with a large result", f, e, api.ErrSize)
+	if p, e := poly.Primitive(rest.by(roots(1)).poly()); e != api.OK || !same(p, rest.by(roots(1))) {
+		t.Error("the test's polynomial is large")
+	}
+}
+
+// P2.6: numbers that look alike to whoever counts modulo a prime.
+func TestFreeOfResidues(t *testing.T) {
+	r := rand.New(rand.NewPCG(23, 23))
+	n := int64(1<<31 - 1)
+	for _, m := range []model{
+		roots(5, 5+n), roots(0, n, -n), roots(5, 5+n, 5+n), ints(1, n), ints(1, 2, n), ints(n, n, 1), ints(0, n, 1), ints(0, 0, 1, n),
+		roots(3, 3).by(ints(1, n)), roots(3, 3).by(ints(n, 1)), roots(3, 3, 4).by(ints(1, 0, 1)), ints(n-1, 0, 1), ints(-1, 1, n-1), ints(-n, n, -2*n, 1),
+	} {
+		checkFree(t, m)
+		checkFree(t, m.times(big.NewInt(-n)))
+		checkFree(t, m.by(fullModel(r, 2, 40)))
+		checkFree(t, m.by(m).by(ints(-2, n)))
 	}
 }
 

@@ -3,6 +3,7 @@ package poly
 import (
 	"pinball/api"
 	"pinball/integer"
+	"pinball/wide"
 )
 
 // Sign returns the sign of the value of p at x.
@@ -16,14 +17,6 @@ func Sign(p api.Poly, x api.Dyadic) (int, api.Errno) {
 		return 0, api.ErrArg
 	case (integer.Bits(x.N)+x.E)*degree > maxBits:
 		return 0, api.ErrSize
-	case degree < 0:
-		return 0, api.OK
 	}
-	// Times 2^(E degree), all terms are integers and the sign is the same.
-	n := widen(x.N)
-	value := widen(p[degree])
-	for i := degree - 1; i >= 0; i-- {
-		value = widen(p[i]).raised(x.E*(degree-i)).plus(value, n).settled()
-	}
-	return value.sign(), api.OK
+	return wide.OfPoly(p).Sign(x), api.OK
 }

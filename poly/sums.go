@@ -3,6 +3,7 @@ package poly
 import (
 	"pinball/api"
 	"pinball/integer"
+	"pinball/wide"
 )
 
 // Add returns p + q.
@@ -21,13 +22,10 @@ func Mul(p, q api.Poly) (api.Poly, api.Errno) {
 		return nil, api.ErrSize
 	}
 	p, q = cut(p), cut(q)
-	switch {
-	case len(p) == 0 || len(q) == 0:
-		return nil, api.OK
-	case len(p)-1+len(q)-1 > api.MaxDegree:
+	if len(p) > 0 && len(q) > 0 && len(p)-1+len(q)-1 > api.MaxDegree {
 		return nil, api.ErrSize
 	}
-	return narrowAll(product(widenAll(p), widenAll(q)))
+	return wide.OfPoly(p).Times(wide.OfPoly(q)).Narrow()
 }
 
 // Derive returns the derivative of p.
@@ -35,7 +33,7 @@ func Derive(p api.Poly) (api.Poly, api.Errno) {
 	if large(p) {
 		return nil, api.ErrSize
 	}
-	return narrowAll(derivative(widenAll(cut(p))))
+	return wide.OfPoly(p).Derivative().Narrow()
 }
 
 // pairwise applies f to the coefficients of p and q.
@@ -61,28 +59,4 @@ func coefficient(p api.Poly, i int) api.Int {
 		return p[i]
 	}
 	return api.Int{}
-}
-
-// product returns p q; neither is the zero polynomial.
-func product(p, q []wide) []wide {
-	sums := make([]digits, len(p)+len(q)-1)
-	for i, a := range p {
-		for j, b := range q {
-			sums[i+j] = sums[i+j].plus(a, b)
-		}
-	}
-	r := make([]wide, len(sums))
-	for i, s := range sums {
-		r[i] = s.settled()
-	}
-	return r
-}
-
-// derivative returns the derivative of p.
-func derivative(p []wide) []wide {
-	var r []wide
-	for i := 1; i < len(p); i++ {
-		r = append(r, p[i].times(wide{integer.Of(i)}))
-	}
-	return r
 }

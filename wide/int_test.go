@@ -1,4 +1,4 @@
-package poly
+package wide
 
 import (
 	"math/big"
@@ -9,8 +9,8 @@ import (
 	"pinball/integer"
 )
 
-// worth is what a wide stands for, by its definition.
-func worth(x wide) *big.Int {
+// worth is what an Int stands for, by its definition.
+func worth(x Int) *big.Int {
 	v := new(big.Int)
 	for i := len(x) - 1; i >= 0; i-- {
 		s, _ := integer.Text(x[i])
@@ -21,7 +21,7 @@ func worth(x wide) *big.Int {
 }
 
 // tidy reports whether x has the form that the type describes.
-func tidy(x wide) bool {
+func tidy(x Int) bool {
 	for i, d := range x {
 		last := i == len(x)-1
 		if integer.Bits(d) > digitBits || integer.Sign(d) < 0 && !last || integer.Sign(d) == 0 && last {
@@ -33,7 +33,7 @@ func tidy(x wide) bool {
 
 // extreme is a number of up to n digits that is not negative. Digits where
 // carries begin or estimates fail are frequent in it.
-func extreme(r *rand.Rand, n int) wide {
+func extreme(r *rand.Rand, n int) Int {
 	base, _ := integer.Shift(integer.Of(1), digitBits)
 	half, _ := integer.Shift(base, -1)
 	d := make(digits, r.IntN(n+1))
@@ -55,70 +55,94 @@ func extreme(r *rand.Rand, n int) wide {
 	return d.settled()
 }
 
-// checkWide compares a number with that of the standard library.
-func checkWide(t *testing.T, what string, x wide, want *big.Int) {
+// check compares a number with that of the standard library.
+func check(t *testing.T, what string, x Int, want *big.Int) {
 	t.Helper()
 	if !tidy(x) || worth(x).Cmp(want) != 0 {
 		t.Fatalf("%s: %v, want %v", what, worth(x), want)
 	}
 }
 
-// P2.2, P2.3, P2.5 rest on numbers of any size: their sums and products.
-func TestWideSums(t *testing.T) {
+// P2.2, P2.3, P2.5, P3.1 and P3.4 rest on numbers of any size: their sums and products.
+func TestSums(t *testing.T) {
 	r := rand.New(rand.NewPCG(1, 1))
 	for range 800 {
 		x, y, z := extreme(r, 6), extreme(r, 6), extreme(r, 6)
 		if r.IntN(2) == 0 {
-			x = x.negative()
+			x = x.Negative()
 		}
 		if r.IntN(2) == 0 {
-			y = y.negative()
+			y = y.Negative()
 		}
 		v, w, u := worth(x), worth(y), worth(z)
-		checkWide(t, "negative", x.negative(), new(big.Int).Neg(v))
-		checkWide(t, "absolute", x.absolute(), new(big.Int).Abs(v))
-		checkWide(t, "times", x.times(y), new(big.Int).Mul(v, w))
+		check(t, "negative", x.Negative(), new(big.Int).Neg(v))
+		check(t, "absolute", x.Absolute(), new(big.Int).Abs(v))
+		check(t, "times", x.Times(y), new(big.Int).Mul(v, w))
+		check(t, "plus", x.Plus(y), new(big.Int).Add(v, w))
+		check(t, "minus itself", x.Plus(x.Negative()), new(big.Int))
 		sum := x.raised(0).plus(y, z).settled()
-		checkWide(t, "plus", sum, new(big.Int).Add(v, new(big.Int).Mul(w, u)))
-		n := r.IntN(3 * digitBits)
-		checkWide(t, "raised", x.raised(n).settled(), new(big.Int).Lsh(v, uint(n)))
-		if x.sign() != v.Sign() || x.absolute().bits() != v.BitLen() {
+		check(t, "plus a product", sum, new(big.Int).Add(v, new(big.Int).Mul(w, u)))
+		if x.Sign() != v.Sign() || x.bits() != v.BitLen() {
 			t.Fatal("sign, bits:", v)
 		}
-		a, e := x.narrow()
+		a, e := x.Narrow()
 		if (e == api.OK) != (v.BitLen() <= maxBits) {
 			t.Fatal("narrow:", v, e)
 		}
 		if e == api.OK {
-			checkWide(t, "narrow and widen", widen(a), v)
+			check(t, "narrow and widen", Of(a), v)
 		}
 	}
 }
 
+// P2.3, P3.1 and P3.4 rest on their powers, and on factors 2.
+func TestPowers(t *testing.T) {
+	r := rand.New(rand.NewPCG(4, 4))
+	for i := range 400 {
+		x := extreme(r, 4)
+		if r.IntN(2) == 0 {
+			x = x.Negative()
+		}
+		v := worth(x)
+		n := r.IntN(3 * digitBits)
+		check(t, "raised", x.Raised(n), new(big.Int).Lsh(v, uint(n)))
+		check(t, "raised by nothing", x.Raised(0), v)
+		if x.Sign() != 0 {
+			zeros := int(v.TrailingZeroBits())
+			if x.Zeros() != zeros || x.Raised(n).Zeros() != zeros+n {
+				t.Fatal("zeros:", v, n, x.Zeros(), x.Raised(n).Zeros())
+			}
+		}
+		check(t, "power", x.Power(i%5), new(big.Int).Exp(v, big.NewInt(int64(i%5)), nil))
+	}
+}
+
 // P2.5 rests on their quotients and divisors.
-func TestWideQuotients(t *testing.T) {
+func TestQuotients(t *testing.T) {
 	r := rand.New(rand.NewPCG(2, 2))
 	for range 800 {
 		x, y := extreme(r, 7), extreme(r, 4)
-		if y.sign() == 0 {
+		if y.Sign() == 0 {
 			continue
 		}
 		if r.IntN(3) == 0 { // next to a multiple
-			x = x.times(y).minus(integer.Of(r.IntN(3)-1), wide{integer.Of(1)}).absolute()
+			x = x.Times(y).minus(integer.Of(r.IntN(3)-1), Int{integer.Of(1)}).Absolute()
 		}
 		v, w := worth(x), worth(y)
 		q, rest := x.over(y)
 		wantQ, wantR := new(big.Int).QuoRem(v, w, new(big.Int))
-		checkWide(t, "quotient", q, wantQ)
-		checkWide(t, "remainder", rest, wantR)
-		checkWide(t, "share", x.times(y).share(y), v)
-		checkWide(t, "share of a negative number", x.times(y).negative().share(y), new(big.Int).Neg(v))
+		check(t, "quotient", q, wantQ)
+		check(t, "remainder", rest, wantR)
+		check(t, "share", x.Times(y).Share(y), v)
+		check(t, "share of a negative number", x.Times(y).Negative().Share(y), new(big.Int).Neg(v))
+		check(t, "share by a negative number", x.Times(y).Share(y.Negative()), new(big.Int).Neg(v))
+		check(t, "share of negative numbers", x.Times(y).Negative().Share(y.Negative()), v)
 	}
 }
 
 // The estimate of a digit looks at two digits of y. Here the next one is as great
 // as can be, and x is just below a multiple: the estimate is one too great.
-func TestWideEstimate(t *testing.T) {
+func TestEstimate(t *testing.T) {
 	one := big.NewInt(1)
 	base := new(big.Int).Lsh(one, digitBits)
 	top := new(big.Int).Sub(base, one)
@@ -127,14 +151,14 @@ func TestWideEstimate(t *testing.T) {
 		v := new(big.Int).Mul(y, q)
 		v.Sub(v, one)
 		wantQ, wantR := new(big.Int).QuoRem(v, y, new(big.Int))
-		got, rest := wideOf(t, v).over(wideOf(t, y))
-		checkWide(t, "quotient", got, wantQ)
-		checkWide(t, "remainder", rest, wantR)
+		got, rest := intOf(t, v).over(intOf(t, y))
+		check(t, "quotient", got, wantQ)
+		check(t, "remainder", rest, wantR)
 	}
 }
 
-// wideOf is the wide of a number that is not negative.
-func wideOf(t *testing.T, v *big.Int) wide {
+// intOf is the Int of a number that is not negative.
+func intOf(t *testing.T, v *big.Int) Int {
 	var d digits
 	mask := new(big.Int).Sub(new(big.Int).Lsh(big.NewInt(1), digitBits), big.NewInt(1))
 	for rest := new(big.Int).Set(v); rest.Sign() > 0; rest.Rsh(rest, digitBits) {
@@ -148,19 +172,19 @@ func wideOf(t *testing.T, v *big.Int) wide {
 }
 
 // P2.5: common divisors, found and given up.
-func TestWideCommon(t *testing.T) {
+func TestCommon(t *testing.T) {
 	r := rand.New(rand.NewPCG(3, 3))
 	for range 60 {
 		g, x, y := extreme(r, 6), extreme(r, 2), extreme(r, 2)
-		x, y = x.times(g), y.times(g)
+		x, y = x.Times(g), y.Times(g).Negative()
 		want := new(big.Int).GCD(nil, nil, worth(x), worth(y))
 		got, ok := common(x, y, want.BitLen())
 		if !ok {
 			t.Fatal("common gives up:", want.BitLen())
 		}
-		checkWide(t, "common", got, want)
+		check(t, "common", got, want)
 		if got, ok = common(x, y, want.BitLen()+1); ok {
-			checkWide(t, "common that need not be found", got, want)
+			check(t, "common that need not be found", got, want)
 		}
 	}
 }
