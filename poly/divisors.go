@@ -26,6 +26,9 @@ func Gcd(p, q api.Poly) (api.Poly, api.Errno) {
 	}
 	p, _ = Primitive(p)
 	q, _ = Primitive(q)
+	if len(p) > 0 && coprime(p, q) {
+		return Of(1), api.OK
+	}
 	for len(q) > 0 {
 		rest, e := Rem(p, q)
 		if e != api.OK {

@@ -310,6 +310,27 @@ func TestFreeOfResidues(t *testing.T) {
 	}
 }
 
+// P2.6: the same for divisors of two polynomials.
+func TestGcdOfResidues(t *testing.T) {
+	n := int64(1<<31 - 1)
+	for _, c := range []struct{ p, q, want model }{
+		{ints(2, 1), ints(2+n, 1), ints(1)},
+		{ints(-2, 1, 3), ints(-2-n, 1+n, 3-n), ints(1)},
+		{ints(1, n).by(ints(2, 1)), ints(1, n).by(ints(3, 1)), ints(1, n)},
+		{ints(1, 1, n).by(ints(2, 1)), ints(1, 1, n).by(ints(3, 1, 2)), ints(1, 1, n)},
+		{ints(1, n), ints(1, n, n), ints(1)},
+		{ints(5, 1).by(ints(2, n)), ints(5, 1).by(ints(3, n)), ints(5, 1)},
+		{ints(5, 1), ints(5, 1).by(ints(3, n)), ints(5, 1)},
+		{ints(n, 1), ints(0, 1), ints(1)},
+		{ints(n, 0, n), ints(1, 0, 1), ints(1, 0, 1)},
+	} {
+		for _, l := range [][2]model{{c.p, c.q}, {c.q, c.p}} {
+			g, e := poly.Gcd(l[0].poly(), l[1].times(big.NewInt(-n)).poly())
+			expect(t, "Gcd", g, e, c.want)
+		}
+	}
+}
+
 // P2.6: large arguments.
 func TestDivisorsOfLargeArguments(t *testing.T) {
 	for _, p := range largePolys() {

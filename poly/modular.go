@@ -11,20 +11,32 @@ import (
 const prime = 1<<31 - 1
 
 // simple reports that no complex root of p, which is not constant, occurs more
-// than once. It may miss that, but it is much faster than Euclid's algorithm: a
-// divisor that p and its derivative have in common would be one of the residues
-// as well, and with the degree that it has, if the leading coefficient stays.
+// than once: p and its derivative have no divisor in common. It may miss that.
 func simple(p api.Poly) bool {
 	r := residues(p)
-	if r[len(r)-1] == 0 {
-		return false
-	}
 	d := make([]uint64, len(r)-1)
 	for i := range d {
 		d[i] = r[i+1] * uint64(i+1) % prime
 	}
-	for d = cutResidues(d); len(d) > 0; {
-		r, d = d, restOfResidues(r, d)
+	return apart(r, d)
+}
+
+// coprime reports that p, which is not 0, and q have no divisors in common but
+// constants. It may miss that.
+func coprime(p, q api.Poly) bool {
+	return apart(residues(p), residues(q))
+}
+
+// apart reports that two polynomials with these residues have no divisors in
+// common but constants. It may miss that, but it is much faster than Euclid's
+// algorithm: such a divisor would be one of the residues as well, and with the
+// degree that it has, if the leading coefficient of the first one stays.
+func apart(r, s []uint64) bool {
+	if r[len(r)-1] == 0 {
+		return false
+	}
+	for s = cutResidues(s); len(s) > 0; {
+		r, s = s, restOfResidues(r, s)
 	}
 	return len(r) == 1
 }

@@ -32,19 +32,8 @@ func changesBehind(l []wide.Poly) func(x api.Dyadic) int {
 	return func(x api.Dyadic) int {
 		signs := make([]int, len(l))
 		for i, p := range l {
-			signs[i] = signBehind(p, x)
+			signs[i] = p.SignBehind(x)
 		}
 		return alternations(signs)
 	}
-}
-
-// signBehind returns the sign of p, which is not 0, just behind x: that of the
-// first derivative that is not 0 at x.
-func signBehind(p wide.Poly, x api.Dyadic) int {
-	s := p.Sign(x)
-	for s == 0 {
-		p = p.Derivative()
-		s = p.Sign(x)
-	}
-	return s
 }

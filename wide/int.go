@@ -3,7 +3,7 @@
 //
 // Package integer refuses large numbers. But a remainder may be small, and a
 // sign has no size at all, where the numbers on the way to them are large: the
-// packages poly and sturm compute those here. What is given to this package is
+// packages poly, sturm and root compute those here. What is given to this package is
 // never changed; what it returns may share memory with what it was given.
 package wide
 
@@ -92,6 +92,10 @@ func (x Int) Times(y Int) Int {
 
 // Plus returns x + y.
 func (x Int) Plus(y Int) Int {
+	if len(x) == 1 && len(y) == 1 { // as nearly always, and faster than below
+		sum, _ := integer.Add(x[0], y[0])
+		return digits{sum}.settled()
+	}
 	return x.raised(0).plus(y, Int{integer.Of(1)}).settled()
 }
 

@@ -46,6 +46,17 @@ func (p Poly) Sign(x api.Dyadic) int {
 	return value.Sign()
 }
 
+// SignBehind returns the sign just behind x, of a p that is not 0: that of the
+// first derivative that is not 0 at x.
+func (p Poly) SignBehind(x api.Dyadic) int {
+	s := p.Sign(x)
+	for s == 0 {
+		p = p.Derivative()
+		s = p.Sign(x)
+	}
+	return s
+}
+
 // Content returns the greatest common divisor of the coefficients.
 func (p Poly) Content() Int {
 	g, _ := p.content(0)

@@ -7,6 +7,7 @@ import (
 	"testing"
 
 	"pinball/api"
+	"pinball/integer"
 )
 
 // full has the degree n, and coefficients of up to the given number of digits and of both signs.
@@ -140,6 +141,24 @@ func TestSignOfValues(t *testing.T) {
 	}
 	if (Poly{}).Sign(api.Dyadic{}) != 0 {
 		t.Error("the sign of the zero polynomial")
+	}
+}
+
+// P3.4, P4.4: signs just behind a place, which may be a root that occurs more than once.
+func TestSignBehind(t *testing.T) {
+	r := rand.New(rand.NewPCG(17, 17))
+	for i := range 200 {
+		n, e := r.Int64N(31)-15, r.IntN(5)
+		p := full(r, i%4, 1+i%2)
+		for range r.IntN(4) {
+			p = p.Times(Poly{Of(integer.Of(int(-n))), Of(integer.Of(1 << e))})
+		}
+		at := api.Dyadic{N: integer.Of(int(n)), E: e}
+		behind := new(big.Int).Lsh(big.NewInt(n), 20000)
+		behind.Add(behind, big.NewInt(1))
+		if got, want := p.SignBehind(at), signOf(worths(p), behind, e+20000); got != want {
+			t.Fatal("sign behind:", got, want, worths(p), n, e)
+		}
 	}
 }
 
